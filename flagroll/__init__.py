@@ -1,0 +1,1 @@
+"""A house of switches: who gets what, and why."""
