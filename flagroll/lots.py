@@ -1,23 +1,15 @@
 """Steady lots: by a salt each number has one of 10007 places."""
 
 from flagroll.errors import NoSalt
+from flagroll.kinds import LETTERS, is_text_of
 
 PLACES = 10007
-SALT_LETTERS = "abcdefghijklmnopqrstuvwxyz"
 SALT_LENGTH = 12
-
-
-def is_salt(salt):
-    if not isinstance(salt, str):
-        return False
-    if not 1 <= len(salt) <= SALT_LENGTH:
-        return False
-    return all([sign in SALT_LETTERS for sign in salt])
 
 
 def check_salt(salt):
     # The salt is not shown: a thing may be too long or too deep to be written as a text.
-    if not is_salt(salt):
+    if not is_text_of(salt, LETTERS, 1, SALT_LENGTH):
         raise NoSalt("a salt is a text of one to twelve small letters from a to z")
 
 

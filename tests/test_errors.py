@@ -32,6 +32,10 @@ class RefusalsTest(unittest.TestCase):
             self.assertTrue(issubclass(refusal, ValueError), name)
             self.assertFalse(issubclass(errors.RollError, refusal), name)
 
+    def test_each_refusal_stands_straight_under_the_base(self):
+        for name, refusal in refusal_classes().items():
+            self.assertEqual(refusal.__bases__, (errors.RollError,), name)
+
     def test_no_refusal_stands_under_another(self):
         for name, refusal in refusal_classes().items():
             for other_name, other in refusal_classes().items():

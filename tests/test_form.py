@@ -89,6 +89,36 @@ class FilesTest(unittest.TestCase):
             self.assertLessEqual(node.end_lineno - node.lineno + 1, 40, (name, node.name))
 
 
+def modules_drawn_from(tree):
+    return sorted({node.module.split(".")[1] for node in ast.walk(tree) if isinstance(node, ast.ImportFrom)})
+
+
+def is_plain(value):
+    if isinstance(value, (ast.List, ast.Tuple)):
+        return all(is_plain(part) for part in value.elts)
+    if isinstance(value, ast.Dict):
+        return all(is_plain(part) for part in value.keys + value.values)
+    return isinstance(value, ast.Constant)
+
+
+class TopTest(unittest.TestCase):
+    def test_plain_values_each_name_once(self):
+        for name, tree in package_trees():
+            given = [part for part in tree.body if isinstance(part, ast.Assign)]
+            for part in given:
+                self.assertTrue(is_plain(part.value), (name, part.lineno))
+            bound = [part.targets[0].id for part in given]
+            bound = bound + [part.name for part in tree.body if isinstance(part, (ast.FunctionDef, ast.ClassDef))]
+            self.assertEqual(len(set(bound)), len(bound), name)
+
+    def test_no_two_files_draw_from_one_another(self):
+        left = {name[:-3]: modules_drawn_from(tree) for name, tree in package_trees()}
+        while left:
+            done = [name for name, drawn in left.items() if not any(other in left for other in drawn)]
+            self.assertNotEqual(done, [], left)
+            left = {name: drawn for name, drawn in left.items() if name not in done}
+
+
 class LanguageTest(unittest.TestCase):
     def test_only_the_allowed_parts_of_the_language(self):
         for name, node in nodes_of(ast.AST):
@@ -128,6 +158,21 @@ class LanguageTest(unittest.TestCase):
             self.assertIsNone(node.args.vararg, (name, node.name))
             self.assertIsNone(node.args.kwarg, (name, node.name))
             self.assertEqual(node.args.kwonlyargs + node.args.posonlyargs, [], (name, node.name))
+
+    def test_one_plain_target_in_an_assignment(self):
+        for name, node in nodes_of(ast.Assign):
+            self.assertEqual(len(node.targets), 1, (name, node.lineno))
+            self.assertNotIsInstance(node.targets[0], (ast.Tuple, ast.List), (name, node.lineno))
+
+    def test_zip_and_its_like_are_not_kept(self):
+        for name, node in nodes_of(ast.Assign):
+            if isinstance(node.value, ast.Call) and isinstance(node.value.func, ast.Name):
+                self.assertNotIn(node.value.func.id, ["zip", "enumerate", "reversed", "range"], (name, node.lineno))
+
+    def test_texts_have_no_sign_for_the_rest(self):
+        for name, node in nodes_of(ast.Constant):
+            if isinstance(node.value, str):
+                self.assertNotIn("%", node.value, (name, node.lineno))
 
     def test_is_stands_beside_none_and_truths_alone(self):
         for name, node in nodes_of(ast.Compare):
