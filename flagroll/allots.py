@@ -60,7 +60,8 @@ def rows_grown(rows, free, wanted):
 
 def allot_changed(allot, shares):
     wanted = wanted_shares(allot, shares)
-    shrunk = rows_shrunk(allot[0], allot[1], wanted)
+    # A copy: without rows nothing is parted or joined, and the very list that was handed in would be told.
+    shrunk = rows_shrunk(allot[0], list(allot[1]), wanted)
     return rows_grown(shrunk[0], shrunk[1], wanted)
 
 

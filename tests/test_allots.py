@@ -507,11 +507,12 @@ class OwnTest(AllotCase):
 
     def asked(self):
         """Allotments with shares that change all, some or none of the faces, and leave runs empty and full."""
+        bare = [([], WHOLE), ([], [(5, 10007), (0, 5)])]
         allot = ([("a", [(0, 10)]), ("b", [(20, 30), (10, 20)]), ("c", [])], [(30, 10007)])
         full = ([("a", WHOLE), ("b", []), ("c", [])], [])
         changes = [[], [("a", 10)], [("a", 5)], [("a", 15)], [("b", 0)], [("b", 20), ("a", 10), ("c", 0)],
                    [("a", 0), ("b", 0), ("c", 10007)], [("c", 1)]]
-        asked = [(allot, shares) for shares in changes]
+        asked = [(allot, shares) for shares in changes] + [(faceless, []) for faceless in bare]
         return asked + [(full, shares) for shares in ([], [("a", 10007)], [("a", 0)], [("a", 1), ("c", 2)])]
 
     def test_what_is_handed_in_stays_as_it_was(self):
