@@ -37,13 +37,23 @@ def cond_holds(groups, cond, marks):
 
 
 def conds_hold(groups, conds, marks):
-    return all([cond_holds(groups, cond, marks) for cond in conds])
+    for cond in conds:
+        if not cond_holds(groups, cond, marks):
+            return False
+    return True
+
+
+def in_rows(groups, rows, marks):
+    for row in rows:
+        if conds_hold(groups, row, marks):
+            return True
+    return False
 
 
 def in_group(groups, name, marks):
     for group_name, rows in groups:
         if group_name == name:
-            return any([conds_hold(groups, row, marks) for row in rows])
+            return in_rows(groups, rows, marks)
     return False
 
 
