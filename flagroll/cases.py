@@ -6,8 +6,8 @@ from flagroll.lots import PLACES, number_for
 from flagroll.switches import decided_among, rules_holding, share_at
 
 
-def place_stretches(switch, day):
-    """Ranges (low, high) of places, rising, that are alike to all outcomes of the switch at the day."""
+def place_cuts(switch, day):
+    """The places at which another stretch begins or ends for an outcome of the switch at the day."""
     cuts = [0, PLACES]
     for conds, outcome in switch[2]:
         if outcome[0] == "share":
@@ -15,8 +15,18 @@ def place_stretches(switch, day):
     for face, run in switch[3][0]:
         for low, high in run:
             cuts.extend([low, high])
-    cuts = sorted(set(cuts))
-    return list(zip(cuts, cuts[1:]))
+    return cuts
+
+
+def stretches_between(cuts):
+    """Ranges (low, high) of places, rising, from each cut to the next greater one."""
+    ends = sorted(set(cuts))
+    return list(zip(ends, ends[1:]))
+
+
+def stretch_faces(groups, switch, day, marks, stretches):
+    numbers = rules_holding(groups, switch, marks)
+    return [decided_among(switch, day, numbers, low)[0] for low, high in stretches]
 
 
 def choices_with(choices, groups, switch, mark):
@@ -37,7 +47,7 @@ def cell_choices(groups, switch):
 
 
 def cases_with_marks(groups, switch, day):
-    stretches = place_stretches(switch, day)
+    stretches = stretches_between(place_cuts(switch, day))
     pairs = []
     for cells, marks in cell_choices(groups, switch):
         numbers = rules_holding(groups, switch, marks)
@@ -62,10 +72,9 @@ def rule_decides(groups, switch, day, number):
 
 
 def face_counts(groups, switch, day, marks):
-    numbers = rules_holding(groups, switch, marks)
+    stretches = stretches_between(place_cuts(switch, day))
     counts = {}
     # By a salt each place has just one of the numbers from 0 to 10006: so places are counted.
-    for low, high in place_stretches(switch, day):
-        face = decided_among(switch, day, numbers, low)[0]
-        counts[face] = counts.get(face, 0) + high - low
+    for stretch, face in zip(stretches, stretch_faces(groups, switch, day, marks, stretches)):
+        counts[face] = counts.get(face, 0) + stretch[1] - stretch[0]
     return sorted(counts.items())

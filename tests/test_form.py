@@ -2,6 +2,7 @@
 
 import ast
 import builtins
+import functools
 import pathlib
 import re
 import unittest
@@ -32,6 +33,15 @@ ALLOWED_METHODS = """
 
 SPECIAL_METHODS = ["__init__", "__eq__", "__repr__", "__str__", "__len__"]
 
+# Names that a method may share with one of Python's own, and names that a value of an object may share (L26).
+SHARED_METHODS = ALLOWED_METHODS + ["add", "discard"]
+SHARED_VALUES = "count index title find get join lower upper split strip copy add".split()
+
+# Of what is made on the spot by these, nothing is kept (L23); they are walked within these, or behind an "in".
+WALKED = ["zip", "enumerate", "reversed", "range"]
+WALKED_METHODS = ["items", "keys", "values"]
+WALKERS = ["list", "tuple", "dict", "sorted", "sum", "any", "all", "enumerate", "zip", "min", "max"]
+
 BARRED_WORDS = """
     type typing typing_extensions enum Enum IntEnum StrEnum Flag IntFlag Generic Protocol ABC ABCMeta
     namedtuple NamedTuple TypedDict TYPE_CHECKING abstractmethod
@@ -46,6 +56,7 @@ def package_texts():
     return [(path.name, path.read_bytes().decode("utf-8")) for path in package_files() if path.is_file()]
 
 
+@functools.lru_cache
 def package_trees():
     return [(name, ast.parse(text)) for name, text in package_texts()]
 
@@ -54,6 +65,7 @@ def nodes_of(kinds):
     return [(name, node) for name, tree in package_trees() for node in ast.walk(tree) if isinstance(node, kinds)]
 
 
+@functools.lru_cache
 def methods_defined():
     return [(name, part.name) for name, node in nodes_of(ast.ClassDef)
             for part in node.body if isinstance(part, ast.FunctionDef)]
@@ -64,6 +76,22 @@ def names_bound():
     bound = [pair for pair in bound if pair not in methods_defined()]
     bound = bound + [(name, node.arg) for name, node in nodes_of(ast.arg)]
     return bound + [(name, node.id) for name, node in nodes_of(ast.Name) if isinstance(node.ctx, ast.Store)]
+
+
+def values_given():
+    """The names of the values that are given to objects."""
+    return [(name, node.attr) for name, node in nodes_of(ast.Attribute) if isinstance(node.ctx, ast.Store)]
+
+
+def called(node):
+    """The name by which a call calls, a method's too, or None."""
+    if not isinstance(node, ast.Call):
+        return None
+    return node.func.attr if isinstance(node.func, ast.Attribute) else getattr(node.func, "id", None)
+
+
+def nodes_with_parents():
+    return [(name, parent, node) for name, parent in nodes_of(ast.AST) for node in ast.iter_child_nodes(parent)]
 
 
 class FilesTest(unittest.TestCase):
@@ -180,6 +208,79 @@ class LanguageTest(unittest.TestCase):
                 if isinstance(sign, (ast.Is, ast.IsNot)):
                     self.assertIsInstance(right, ast.Constant, (name, node.lineno))
                     self.assertIn(right.value, (None, True, False), (name, node.lineno))
+
+    def test_a_comprehension_has_one_for_and_at_most_one_if(self):
+        for name, node in nodes_of(ast.ListComp):
+            self.assertEqual(len(node.generators), 1, (name, node.lineno))
+            self.assertLessEqual(len(node.generators[0].ifs), 1, (name, node.lineno))
+
+    def test_what_is_walked_is_walked_on_the_spot(self):
+        for name, parent, node in nodes_with_parents():
+            own_method = isinstance(node, ast.Call) and isinstance(node.func, ast.Attribute)
+            if called(node) not in (WALKED_METHODS if own_method else WALKED):
+                continue
+            behind_in = isinstance(parent, (ast.For, ast.comprehension)) and parent.iter is node
+            within = called(parent) in WALKERS and node in parent.args
+            self.assertTrue(behind_in or within, (name, node.lineno))
+
+    def test_sets_are_neither_kept_nor_walked(self):
+        for name, parent, node in nodes_with_parents():
+            if called(node) in ("set", "frozenset"):
+                fits = called(parent) in ("len", "sorted") or isinstance(parent, (ast.Compare, ast.BinOp))
+                self.assertTrue(fits, (name, node.lineno))
+
+    def test_errors_are_taken_by_name(self):
+        defined = [node.name for name, node in nodes_of(ast.ClassDef) if name == "errors.py"]
+        for name, node in nodes_of(ast.ExceptHandler):
+            taken = node.type.elts if isinstance(node.type, ast.Tuple) else [node.type]
+            for error in taken:
+                self.assertIn(error.id, defined, (name, node.lineno))
+        for name, node in nodes_of(ast.Raise):
+            self.assertIn(called(node.exc), defined, (name, node.lineno))
+
+
+class ClassesTest(unittest.TestCase):
+    def test_classes_are_plain(self):
+        for name, node in nodes_of(ast.ClassDef):
+            self.assertLessEqual(len(node.bases), 1, (name, node.name))
+            self.assertEqual(node.decorator_list + node.keywords, [], (name, node.name))
+            methods = [part.name for part in node.body if isinstance(part, ast.FunctionDef)]
+            self.assertEqual(len(set(methods)), len(methods), (name, node.name))
+            for part in node.body:
+                self.assertIsInstance(part, (ast.FunctionDef, ast.Pass), (name, node.name))
+
+    def test_no_name_is_a_method_and_a_value(self):
+        methods = [method for name, method in methods_defined()]
+        for name, value in values_given():
+            self.assertNotIn(value, methods, name)
+
+    def test_names_of_methods_and_values(self):
+        own = {name for kind in (str, int, list, dict, set, frozenset, bytes, tuple) for name in dir(kind)}
+        for name, method in methods_defined():
+            self.assertTrue(method not in own or method in SHARED_METHODS + SPECIAL_METHODS, (name, method))
+        for name, value in values_given():
+            self.assertTrue(value not in own or value in SHARED_VALUES, (name, value))
+            self.assertNotIn(value, ["args", "sort", "format", "encode"], name)
+
+    def test_values_are_given_through_self(self):
+        for name, node in nodes_of(ast.Attribute):
+            if isinstance(node.ctx, ast.Store):
+                self.assertEqual(node.value.id, "self", (name, node.lineno))
+
+    def test_no_local_is_called_like_a_class_or_an_import(self):
+        for name, tree in package_trees():
+            nodes = list(ast.walk(tree))
+            drawn = {alias.name for node in nodes if isinstance(node, ast.ImportFrom) for alias in node.names}
+            drawn = drawn | {node.name for node in nodes if isinstance(node, ast.ClassDef)}
+            given = {node.arg for node in nodes if isinstance(node, ast.arg)}
+            names = [node for node in nodes if isinstance(node, ast.Name)]
+            given = given | {node.id for node in names if isinstance(node.ctx, ast.Store)}
+            self.assertEqual(given & drawn, set(), name)
+
+    def test_an_init_gives_back_nothing(self):
+        for name, node in nodes_of(ast.FunctionDef):
+            if node.name == "__init__":
+                self.assertEqual([part for part in ast.walk(node) if isinstance(part, ast.Return)], [], name)
 
 
 if __name__ == "__main__":
